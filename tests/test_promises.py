@@ -1,0 +1,146 @@
+"""What holds of every function: [1], and the interface with its files, names and arguments."""
+
+import importlib
+import inspect
+import random
+import unittest
+
+from checks import Checks, outcome
+from samples import NO_HISTORIES, Row, behind, matched, mixed, name_of, together, wild
+from shortbars import errors
+
+# Each function of the interface, in the file in which it is defined, and its arguments.
+INTERFACE = {
+    "calls": {
+        "need_history": "thing", "is_ahead": "history number far", "is_order": "history value",
+        "calls_of_lot": "history lot", "history_of_thing": "history thing"},
+    "runs": {"told_by": "history order", "is_explanation": "history value", "states_by": "history order"},
+    "search": {"is_explained": "history", "first_explanation": "history"},
+    "thin": {
+        "without_values": "history thing some", "quiet_places": "history", "plain_form": "history",
+        "renamed": "history thing renaming"},
+    "cells": {
+        "marks_of": "history", "kin_of": "history value", "span_of": "history value",
+        "is_forced": "history value far", "odds_in": "history"},
+}
+# Things that stand in the place of each argument: some are right for some histories, some for none.
+THINGS = {
+    "number": (0, 1, 2, 9, None, True), "far": (0, 1, 2, 5, None, False), "value": (0, 1, 2, None, "x", (0, 1), (1, 0)),
+    "lot": ((), (0,), (0, 1), (1, 0), [0]), "thing": (0, 1, -1, None), "order": ((), (0,), (0, 1), (1, 0), (0, 1, 2), [0]),
+    "some": ((), (0,), (0, 1), (1, 0), None), "renaming": ((), ((0, 7),), ((0, 7), (1, 3), (2, 5), (3, 9)), [(0, 1)]),
+    "paper": (("order", ()), ("order", (0, 1)), ("unwritten", 0), ("unput", 0), ("early", 0, 1), ("old", 0, 1),
+              ("odds", 0, 1, 1, 0), ("twice", 0, 1), ("turn", 0, 1, 2, None), ("full", 1, (0,)), ["order", (0,)], None),
+    "turn": ((), (0,), (0, 1), (None, 0, 1), [0], (1, 0)), "row": ((), (0,), (0, 1), (1, 0), (0, 1, 2), [0]),
+    "pile": ((), (0,), (0, 1), (0, 2), (0, 1, 2), [0]),
+}
+SORTS = ("cell", "queue", "stack", "heads", "counter", "tickets", "set", ("room", 1), ("room", 9))
+
+
+def every_function():
+    for module, functions in INTERFACE.items():
+        for name, names in functions.items():
+            yield getattr(importlib.import_module("shortbars." + module), name), names.split()
+
+
+def histories():
+    chance = random.Random(131)
+    for sort in SORTS:
+        yield (sort,), ()
+        yield from mixed(chance, (sort,), 7, 3, 9)
+        yield wild(chance, (sort,), 10, 3)
+    for sort in ("queue", "stack", "heads"):
+        yield from matched(chance, sort, 7, 9)
+    yield from mixed(chance, ("cell", "queue", ("room", 2), "counter"), 7, 3, 6)
+    # Objects that equal themselves alone cannot be compared with their copies.
+    yield from (thing for thing, _ in NO_HISTORIES[::3] if "samples." not in repr(thing))
+
+
+def rows_of_things(names):
+    """The things that are passed behind the history: each one of the samples comes in its place once."""
+    places = [THINGS[name] for name in names]
+    many = max([len(place) for place in places], default=1)
+    return [tuple(place[(at + 2 * which) % len(place)] for which, place in enumerate(places)) for at in range(many)]
+
+
+class TestInterface(unittest.TestCase):
+    def test_names_and_arguments(self):
+        for module, functions in INTERFACE.items():
+            for name, names in functions.items():
+                function = getattr(importlib.import_module("shortbars." + module), name)
+                self.assertTrue(inspect.isfunction(function))
+                self.assertEqual(function.__module__, "shortbars." + module)
+                self.assertEqual(function.__name__, name)
+                parameters = inspect.signature(function).parameters.values()
+                self.assertEqual([parameter.name for parameter in parameters], names.split())
+                for parameter in parameters:
+                    self.assertEqual(parameter.kind, inspect.Parameter.POSITIONAL_OR_KEYWORD)
+                    self.assertIs(parameter.default, inspect.Parameter.empty)
+
+
+class TestEveryFunction(Checks, unittest.TestCase):
+    def test_arguments_stay_and_equal_calls_come_to_the_same(self):
+        told = {}
+        rows = list(histories())
+        for function, names in every_function():
+            key = (function.__module__, function.__name__)
+            for history in rows:
+                for things in rows_of_things(names[1:]):
+                    self.is_pure(function, history, *things)
+                    result = outcome(function, history, *things)
+                    told.setdefault(key, set()).add(result[0])
+        for function, names in every_function():
+            key = (function.__module__, function.__name__)
+            self.assertEqual(told[key], {"returned", "raised"}, key)
+
+    def test_what_was_called_between_makes_no_difference(self):
+        rows = [history for history in histories() if isinstance(history, tuple)]
+        functions = [(function, names) for function, names in every_function()]
+        first = [outcome(function, history, *things) for function, names in functions for history in rows[::5]
+                 for things in rows_of_things(names[1:])[:2]]
+        second = [outcome(function, history, *things) for function, names in reversed(functions)
+                  for history in reversed(rows[::5]) for things in reversed(rows_of_things(names[1:])[:2])]
+        self.assertEqual(first, list(reversed(second)))
+
+    def test_what_is_refused_is_kept_by_the_error_alone(self):
+        lot = [0]
+        history = (("cell",), ((0, 1, 0, "write", 1, None),))
+        from shortbars.calls import calls_of_lot
+        with self.assertRaises(errors.BadLot) as caught:
+            calls_of_lot(history, lot)
+        self.assertIs(caught.exception.given, lot)
+        self.assertEqual(calls_of_lot(history, (0,)), history)
+
+    def test_the_history_is_refused_ahead_of_all_else(self):
+        for function, names in every_function():
+            self.refuses_histories(function, *[None for _ in names[1:]])
+
+    def test_things_of_classes_of_their_own_come_to_the_same(self):
+        for function, names in every_function():
+            for history in list(histories())[::3]:
+                if type(history) is tuple and len(history) == 2 and type(history[0]) is type(history[1]) is tuple:
+                    own = Row((Row(history[0]), Row(Row(call) if type(call) is tuple else call for call in history[1])))
+                    for things in rows_of_things(names[1:])[:3]:
+                        if function.__name__ != "need_history":
+                            self.is_pure(function, own, *things)
+                            self.assertEqual(outcome(function, own, *things), outcome(function, history, *things))
+
+    def test_of_one_thing_alone(self):
+        good = {"cells": ("cell",)}
+        for function, names in every_function():
+            sorts = good.get(function.__module__.split(".")[1])
+            if sorts:
+                self.refuses_sorts(function, sorts, *[None for _ in names[1:]])
+
+    def test_ten_calls(self):
+        rows = {"cell": ("write", "read"), "queue": ("put", "take"), "stack": ("put", "take"), "heads": ("put", "take")}
+        for sort, (one, two) in rows.items():
+            row = [(one, at, None) for at in range(5)] + [(two, None, at) for at in range(5)]
+            for history in (((sort,), together(row)), ((sort,), behind(row))):
+                for function, names in every_function():
+                    for things in rows_of_things(names[1:]):
+                        self.is_pure(function, history, *things)
+        self.assertEqual({name_of(sort) for sort in SORTS} >= set(rows), True)
+
+
+if __name__ == "__main__":
+    unittest.main()
