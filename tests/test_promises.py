@@ -22,6 +22,17 @@ INTERFACE = {
     "cells": {
         "marks_of": "history", "kin_of": "history value", "span_of": "history value",
         "is_forced": "history value far", "odds_in": "history"},
+    "cellpapers": {"cell_paper": "history", "check_cell": "history paper"},
+    "cellturns": {
+        "all_turns": "history", "order_by": "history turn", "cell_count": "history", "is_tight": "history"},
+    "lines": {"queue_span": "history value", "out_of_turn": "history", "cover_of": "history number"},
+    "linepapers": {"queue_paper": "history", "check_queue": "history paper"},
+    "linerows": {"all_rows": "history", "order_of_row": "history row"},
+    "spans": {
+        "matches": "history", "span_of": "history value", "all_spans": "history", "loose_values": "history"},
+    "piles": {
+        "can_lie_beneath": "history value far", "is_joined": "history pile", "does_bar": "history pile",
+        "bases": "history pile", "least_pile": "history"},
 }
 # Things that stand in the place of each argument: some are right for some histories, some for none.
 THINGS = {
@@ -124,8 +135,17 @@ class TestEveryFunction(Checks, unittest.TestCase):
                             self.is_pure(function, own, *things)
                             self.assertEqual(outcome(function, own, *things), outcome(function, history, *things))
 
+    def test_papers_told_may_be_passed_on(self):
+        from shortbars.cellpapers import cell_paper, check_cell
+        from shortbars.linepapers import check_queue, queue_paper
+        for sort, tell, check in (("cell", cell_paper, check_cell), ("queue", queue_paper, check_queue)):
+            for history in mixed(random.Random(132), (sort,), 10, 4, 60):
+                paper = tell(history)
+                self.tells(paper[0], check, history, paper)
+
     def test_of_one_thing_alone(self):
-        good = {"cells": ("cell",)}
+        good = {"cells": ("cell",), "cellpapers": ("cell",), "cellturns": ("cell",), "lines": ("queue",),
+                "linepapers": ("queue",), "linerows": ("queue",), "spans": ("stack", "heads"), "piles": ("stack",)}
         for function, names in every_function():
             sorts = good.get(function.__module__.split(".")[1])
             if sorts:

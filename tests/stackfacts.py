@@ -1,0 +1,72 @@
+"""What the document says of stacks and heads, straight from its words, for the tests to compare with."""
+
+from itertools import combinations
+
+from oracle import ahead
+from queuefacts import put_of, takes_of, values_put
+
+
+def is_matched(history):
+    for call in history[1]:
+        if call[3] == "take" and call[5] is not None:
+            put = put_of(history, call[5])
+            if put is None or len(takes_of(history, call[5])) > 1 or ahead(call, put):
+                return False
+    return True
+
+
+def span(history, value):
+    """The span of a value of a matched history, None of a free one."""
+    put, takes = put_of(history, value), takes_of(history, value)
+    if not takes:
+        return put[1], None
+    return (put[1], takes[0][0]) if takes[0][0] > put[1] else None
+
+
+def spanned(history):
+    return [value for value in values_put(history) if span(history, value) is not None]
+
+
+def beneath(history, value, far):
+    takes, others = takes_of(history, value), takes_of(history, far)
+    if ahead(put_of(history, far), put_of(history, value)):
+        return False
+    return takes == [] or (others != [] and not ahead(takes[0], others[0]))
+
+
+def meet(one, two):
+    """Whether two spans have a number in common."""
+    return (one[1] is None or two[0] <= one[1]) and (two[1] is None or one[0] <= two[1])
+
+
+def is_joined(history, pile):
+    """However it is parted in two, some spans of the parts meet."""
+    for many in range(1, len(pile)):
+        for part in combinations(pile, many):
+            rest = [value for value in pile if value not in part]
+            if not any(meet(span(history, one), span(history, two)) for one in part for two in rest):
+                return False
+    return True
+
+
+def bases(history, pile):
+    return tuple(value for value in pile if all(beneath(history, value, far) for far in pile if far != value))
+
+
+def bars(history, pile):
+    return is_joined(history, pile) and bases(history, pile) == ()
+
+
+def piles(history):
+    values = spanned(history)
+    return [pile for many in range(1, len(values) + 1) for pile in combinations(values, many)]
+
+
+def is_covered(history, call, pile):
+    """Whether each number from the BEGIN of a call to its END lies in some span."""
+    moments = sorted({call[0], call[1]} | {end for value in pile for end in span(history, value)
+                                           if end is not None and call[0] < end < call[1]})
+    points = moments + [(one + two) / 2 for one, two in zip(moments, moments[1:])]
+    return all(any(span(history, value)[0] <= point and (span(history, value)[1] is None
+                                                         or point <= span(history, value)[1]) for value in pile)
+               for point in points)
