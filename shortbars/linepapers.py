@@ -1,13 +1,13 @@
 """Whether a HISTORY of one queue is explained: PAPERS that tell, and their check."""
 
-from shortbars.calls import GIVEN, WORD, leads
+from shortbars.calls import GIVEN, TOLD, WORD, leads
 from shortbars.errors import BadPaper
 from shortbars.kinds import is_number_below
 from shortbars.linerows import order_by_row, rows_of
-from shortbars.lines import fewest_cover, is_cover, pairs_out_of_turn, queue_calls
+from shortbars.lines import is_cover, pairs_out_of_turn, queue_calls
 from shortbars.papers import word_of_paper
-from shortbars.putting import are_twice, is_early, is_empty_answer, is_matched, is_taken, is_unput, put_of, takes_of
-from shortbars.putting import values_put
+from shortbars.putting import are_twice, fewest_cover, is_early, is_empty_answer, is_taken, is_unput
+from shortbars.putting import put_of, spans_of, take_flaws, takes_of, values_put
 from shortbars.runs import explains
 
 FORMS = (("order", 2), ("unput", 2), ("twice", 3), ("early", 3), ("turn", 5), ("full", 3))
@@ -25,20 +25,21 @@ def queue_paper(history):
 
 def queue_flaws(calls):
     """A list of PAPERS that bar an EXPLANATION; [] just if it is explained."""
-    if not is_matched(calls):
-        return _flaws_of_takes(calls)
+    unmatched = [_with_put(calls, paper) for paper in take_flaws(calls)]
+    if unmatched:
+        return unmatched
     turns = [_turn_paper(calls, value, far) for value, far in pairs_out_of_turn(calls)]
     empties = [number for number, call in enumerate(calls) if is_empty_answer(call)]
-    covers = [("full", number, fewest_cover(calls, number)) for number in empties]
+    spans = spans_of(calls)
+    covers = [("full", number, fewest_cover(spans, calls[number])) for number in empties]
     return turns + [paper for paper in covers if paper[2] is not None]
 
 
-def _flaws_of_takes(calls):
-    numbers = range(len(calls))
-    unput = [("unput", number) for number in numbers if is_unput(calls, number)]
-    twice = [("twice", number, far) for number in numbers for far in numbers if are_twice(calls, number, far)]
-    early = [("early", number, far) for number in numbers for far in numbers if is_early(calls, number, far)]
-    return unput + twice + early
+def _with_put(calls, paper):
+    """A PAPER on what is not matched, as it stands for a queue: of "early" with the "put", too."""
+    if paper[0] != "early":
+        return paper
+    return paper + (put_of(calls, calls[paper[1]][TOLD]),)
 
 
 def _turn_paper(calls, value, far):

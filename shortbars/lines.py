@@ -3,7 +3,7 @@
 from shortbars.calls import BEGIN, END, leads, lone_calls
 from shortbars.errors import BadNumber, BadValue
 from shortbars.kinds import is_number_below, is_value
-from shortbars.putting import is_empty_answer, put_of, spans_of, takes_of, values_put
+from shortbars.putting import fewest_cover, is_empty_answer, put_of, spans_of, takes_of, values_put
 
 
 def queue_calls(history):
@@ -59,36 +59,7 @@ def cover_of(history, number):
     calls = queue_calls(history)
     if not is_number_below(number, len(calls)) or not is_empty_answer(calls[number]):
         raise BadNumber(number)
-    return fewest_cover(calls, number)
-
-
-def fewest_cover(calls, number):
-    """A COVER of this CALL with as few VALUES as there can be, None without any."""
-    spans = spans_of(calls)
-    cover = ()
-    reach = calls[number][BEGIN]
-    while reach is not None and reach < calls[number][END]:
-        value = _furthest(spans, reach)
-        if value is None:
-            return None
-        cover = cover + (value,)
-        reach = spans[value][1]
-    return cover
-
-
-def _furthest(spans, reach):
-    """Of the VALUES whose spans begin ahead of reach the one that is in longest behind it, None if none is."""
-    best = None
-    far = reach
-    for value, (begin, end) in spans.items():
-        if begin >= reach:
-            continue
-        if end is None:
-            return value
-        if end > far:
-            best = value
-            far = end
-    return best
+    return fewest_cover(spans_of(calls), calls[number])
 
 
 def is_cover(calls, number, value):

@@ -37,37 +37,41 @@ def _lies_beneath(calls, value, far):
 def is_joined(history, pile):
     """Whether a PILE is joined."""
     spans = spans_of(stack_calls(history))
-    if not _is_pile(spans, pile):
+    if not is_pile(spans, pile):
         raise BadPile(pile)
-    return _are_joined([spans[value] for value in pile])
+    return _are_joined({value: spans[value] for value in pile})
 
 
 def does_bar(history, pile):
     """Whether a PILE is joined and bars."""
     calls = stack_calls(history)
     spans = spans_of(calls)
-    if not _is_pile(spans, pile):
+    if not is_pile(spans, pile):
         raise BadPile(pile)
-    return _bars(spans, beneath_pairs(calls, pile), pile)
+    return is_barring(spans, beneath_pairs(calls, pile), pile)
 
 
 def bases(history, pile):
     """The ascending tuple of all VALUES of a PILE that can lie beneath all others of it."""
     calls = stack_calls(history)
-    if not _is_pile(spans_of(calls), pile):
+    if not is_pile(spans_of(calls), pile):
         raise BadPile(pile)
-    return tuple([int(value) for value in _bases_of(beneath_pairs(calls, pile), pile)])
+    return tuple([int(value) for value in bases_of(beneath_pairs(calls, pile), pile)])
 
 
 def least_pile(history):
     """The first one of the fewest VALUES of all joined PILES that bar, None if none bars."""
-    calls = stack_calls(history)
+    return fewest_barring(stack_calls(history))
+
+
+def fewest_barring(calls):
+    """What least_pile tells of a stack with these CALLS."""
     spans = spans_of(calls)
     values = list(spans)
     beneath = beneath_pairs(calls, values)
     for size in range(1, len(values) + 1):
         for pile in combinations(values, size):
-            if _bars(spans, beneath, pile):
+            if is_barring(spans, beneath, pile):
                 return pile
     return None
 
@@ -78,27 +82,46 @@ def beneath_pairs(calls, values):
             if value != far and _lies_beneath(calls, value, far)}
 
 
-def _is_pile(spans, value):
+def is_pile(spans, value):
+    """Whether any value is a PILE of some of these SPANS."""
     return are_values(value) and len(value) > 0 and all(part in spans for part in value)
 
 
-def _bars(spans, beneath, pile):
-    return _are_joined([spans[value] for value in pile]) and not _bases_of(beneath, pile)
+def is_barring(spans, beneath, pile):
+    """Whether a PILE is joined and none of its VALUES can lie beneath all others of it."""
+    return not bases_of(beneath, pile) and _are_joined({value: spans[value] for value in pile})
 
 
-def _bases_of(beneath, pile):
+def bases_of(beneath, pile):
+    """The list of the VALUES of a PILE that can lie beneath all others of it."""
     return [value for value in pile if all((value, far) in beneath for far in pile if far != value)]
 
 
 def _are_joined(spans):
-    """Whether these SPANS hang together: from the first one on no number between them is in none."""
-    row = sorted(spans)
-    reach = row[0][1]
-    for begin, end in row[1:]:
-        if reach is None:
-            return True
-        if begin > reach:
-            return False
-        if end is None or end > reach:
+    """Whether no number between these SPANS is in none of them."""
+    return len(joined_parts(spans)) == 1
+
+
+def joined_parts(spans):
+    """The list of the joined PILES of these SPANS, a dict by VALUES, that are in no greater one, by their FROM."""
+    parts = []
+    reach = -1
+    for value in sorted(list(spans), key=lambda part: spans[part][0]):
+        begin, end = spans[value]
+        if reach is not None and reach < begin:
+            parts.append([value])
             reach = end
-    return True
+            continue
+        parts[-1].append(value)
+        if reach is not None and (end is None or end > reach):
+            reach = end
+    return [tuple(sorted(part)) for part in parts]
+
+
+def stretch_of(spans, pile):
+    """The stretch of a joined PILE: from where the first one of its SPANS begins to where the last one ends."""
+    ends = [spans[value][1] for value in pile]
+    begin = min([spans[value][0] for value in pile])
+    if None in ends:
+        return begin, None
+    return begin, max(ends)

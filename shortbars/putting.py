@@ -2,6 +2,7 @@
 
 from shortbars.calls import BEGIN, END, GIVEN, TOLD, WORD, leads, lone_calls
 from shortbars.errors import BadHistory
+from shortbars.kinds import is_number_below
 
 
 def put_of(calls, value):
@@ -52,13 +53,30 @@ def is_early(calls, number, far):
     return leads(calls[number], calls[far])
 
 
+def take_flaws(calls):
+    """The list of PAPERS of stacks and heads on what is not matched; [] just if all is."""
+    numbers = range(len(calls))
+    pairs = [(number, far) for number in numbers for far in numbers]
+    unput = [("unput", number) for number in numbers if is_unput(calls, number)]
+    twice = [("twice", number, far) for number, far in pairs if are_twice(calls, number, far)]
+    early = [("early", number) for number, far in pairs if is_early(calls, number, far)]
+    return unput + twice + early
+
+
+def is_take_flaw(calls, word, things):
+    """Whether what stands behind one of the words of take_flaws, any things, is as told."""
+    if not all(is_number_below(thing, len(calls)) for thing in things):
+        return False
+    if word == "unput":
+        return is_unput(calls, things[0])
+    if word == "twice":
+        return are_twice(calls, things[0], things[1])
+    return any(is_early(calls, things[0], far) for far in range(len(calls)))
+
+
 def is_matched(calls):
     """Whether each VALUE that is taken has one "put", and one "take", which is not ahead of it."""
-    numbers = range(len(calls))
-    if [number for number in numbers if is_unput(calls, number)]:
-        return False
-    return not [number for number in numbers for far in numbers
-                if are_twice(calls, number, far) or is_early(calls, number, far)]
+    return not take_flaws(calls)
 
 
 def matched_calls(history, names):
@@ -84,3 +102,31 @@ def spans_of(calls):
         elif begin < calls[takes[0]][BEGIN]:
             spans[value] = (begin, calls[takes[0]][BEGIN])
     return spans
+
+
+def fewest_cover(spans, call):
+    """As few VALUES as can be, in turn, whose spans leave no number of this CALL out; None if all do."""
+    cover = ()
+    reach = call[BEGIN]
+    while reach is not None and reach < call[END]:
+        value = _furthest(spans, reach)
+        if value is None:
+            return None
+        cover = cover + (value,)
+        reach = spans[value][1]
+    return cover
+
+
+def _furthest(spans, reach):
+    """Of the VALUES whose spans begin ahead of reach the one that is in longest behind it, None if none is."""
+    best = None
+    far = reach
+    for value, (begin, end) in spans.items():
+        if begin >= reach:
+            continue
+        if end is None:
+            return value
+        if end > far:
+            best = value
+            far = end
+    return best

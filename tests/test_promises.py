@@ -6,7 +6,7 @@ import random
 import unittest
 
 from checks import Checks, outcome
-from samples import NO_HISTORIES, Row, behind, matched, mixed, name_of, together, wild
+from samples import NO_HISTORIES, TOP, Row, behind, matched, mixed, together, wild
 from shortbars import errors
 
 # Each function of the interface, in the file in which it is defined, and its arguments.
@@ -33,16 +33,34 @@ INTERFACE = {
     "piles": {
         "can_lie_beneath": "history value far", "is_joined": "history pile", "does_bar": "history pile",
         "bases": "history pile", "least_pile": "history"},
+    "stacks": {
+        "is_explained_stack": "history", "stack_paper": "history", "check_stack": "history paper",
+        "order_by_piles": "history"},
+    "blocks": {"blocks": "history", "stretches": "history", "is_filled": "history moment"},
+    "stairs": {
+        "gaps_of": "history number", "stair_of": "history value", "rest_of_value": "history value",
+        "late_value": "history", "stairs_of": "history some"},
+    "heads": {
+        "is_explained_heads": "history", "heads_paper": "history", "check_heads": "history paper",
+        "order_by_stairs": "history", "least_late": "history"},
+    "headseams": {"puts_fall": "history", "puts_rise": "history", "as_sort": "history sort"},
+    "rooms": {
+        "crowd_behind": "history moment", "free_values": "history", "window_of": "history some",
+        "room_paper": "history", "check_room": "history paper", "room_bar": "history paper"},
+    "roomsize": {"least_room": "history", "sized": "history number"},
 }
 # Things that stand in the place of each argument: some are right for some histories, some for none.
 THINGS = {
     "number": (0, 1, 2, 9, None, True), "far": (0, 1, 2, 5, None, False), "value": (0, 1, 2, None, "x", (0, 1), (1, 0)),
     "lot": ((), (0,), (0, 1), (1, 0), [0]), "thing": (0, 1, -1, None), "order": ((), (0,), (0, 1), (1, 0), (0, 1, 2), [0]),
-    "some": ((), (0,), (0, 1), (1, 0), None), "renaming": ((), ((0, 7),), ((0, 7), (1, 3), (2, 5), (3, 9)), [(0, 1)]),
+    "some": ((), (0,), (0, 1), (1, 0), 0, 1, 2, None), "renaming": ((), ((0, 7),), ((0, 7), (1, 3), (2, 5), (3, 9)), [(0, 1)]),
     "paper": (("order", ()), ("order", (0, 1)), ("unwritten", 0), ("unput", 0), ("early", 0, 1), ("old", 0, 1),
-              ("odds", 0, 1, 1, 0), ("twice", 0, 1), ("turn", 0, 1, 2, None), ("full", 1, (0,)), ["order", (0,)], None),
+              ("odds", 0, 1, 1, 0), ("twice", 0, 1), ("turn", 0, 1, 2, None), ("full", 1, (0,)), ["order", (0,)], None,
+              ("early", 0), ("pile", (0, 1)), ("covered", 2, (0,)), ("late", (0, 1)), ("strange", 0), ("strange", 1),
+              ("crowd", 5), ("covered", 0)),
     "turn": ((), (0,), (0, 1), (None, 0, 1), [0], (1, 0)), "row": ((), (0,), (0, 1), (1, 0), (0, 1, 2), [0]),
-    "pile": ((), (0,), (0, 1), (0, 2), (0, 1, 2), [0]),
+    "pile": ((), (0,), (0, 1), (0, 2), (0, 1, 2), [0]), "moment": (0, 1, 3, 6, TOP, TOP + 1, None),
+    "sort": ("queue", "stack", "heads", "cell", ("room", 1), None),
 }
 SORTS = ("cell", "queue", "stack", "heads", "counter", "tickets", "set", ("room", 1), ("room", 9))
 
@@ -136,30 +154,40 @@ class TestEveryFunction(Checks, unittest.TestCase):
                             self.assertEqual(outcome(function, own, *things), outcome(function, history, *things))
 
     def test_papers_told_may_be_passed_on(self):
-        from shortbars.cellpapers import cell_paper, check_cell
-        from shortbars.linepapers import check_queue, queue_paper
-        for sort, tell, check in (("cell", cell_paper, check_cell), ("queue", queue_paper, check_queue)):
+        papers = (
+            ("cell", "cellpapers", "cell_paper", "check_cell"), ("queue", "linepapers", "queue_paper", "check_queue"),
+            ("stack", "stacks", "stack_paper", "check_stack"), ("heads", "heads", "heads_paper", "check_heads"),
+            (("room", 2), "rooms", "room_paper", "check_room"),
+        )
+        for sort, module, tell, check in papers:
+            module = importlib.import_module("shortbars." + module)
             for history in mixed(random.Random(132), (sort,), 10, 4, 60):
-                paper = tell(history)
-                self.tells(paper[0], check, history, paper)
+                paper = getattr(module, tell)(history)
+                self.tells(paper[0], getattr(module, check), history, paper)
 
     def test_of_one_thing_alone(self):
+        rooms = tuple(("room", size) for size in range(1, 10))
         good = {"cells": ("cell",), "cellpapers": ("cell",), "cellturns": ("cell",), "lines": ("queue",),
-                "linepapers": ("queue",), "linerows": ("queue",), "spans": ("stack", "heads"), "piles": ("stack",)}
+                "linepapers": ("queue",), "linerows": ("queue",), "spans": ("stack", "heads"), "piles": ("stack",),
+                "stacks": ("stack",), "blocks": ("stack",), "stairs": ("heads",), "heads": ("heads",),
+                "headseams": ("heads",), "rooms": rooms, "roomsize": rooms,
+                "gaps_of": ("stack", "heads"), "as_sort": ("queue", "stack", "heads")}
         for function, names in every_function():
-            sorts = good.get(function.__module__.split(".")[1])
+            sorts = good.get(function.__name__, good.get(function.__module__.split(".")[1]))
             if sorts:
                 self.refuses_sorts(function, sorts, *[None for _ in names[1:]])
 
     def test_ten_calls(self):
-        rows = {"cell": ("write", "read"), "queue": ("put", "take"), "stack": ("put", "take"), "heads": ("put", "take")}
+        rows = {"cell": ("write", "read"), "queue": ("put", "take"), "stack": ("put", "take"), "heads": ("put", "take"),
+                ("room", 1): ("enter", "leave"), ("room", 9): ("enter", "leave")}
         for sort, (one, two) in rows.items():
-            row = [(one, at, None) for at in range(5)] + [(two, None, at) for at in range(5)]
+            row = [(one, at, None) for at in range(5)]
+            row += [(two, at, None) if two == "leave" else (two, None, at) for at in range(5)]
             for history in (((sort,), together(row)), ((sort,), behind(row))):
                 for function, names in every_function():
                     for things in rows_of_things(names[1:]):
                         self.is_pure(function, history, *things)
-        self.assertEqual({name_of(sort) for sort in SORTS} >= set(rows), True)
+        self.assertTrue(set(rows) <= set(SORTS))
 
 
 if __name__ == "__main__":
