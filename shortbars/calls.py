@@ -26,7 +26,7 @@ def need_history(thing):
         raise BadHistory("calls")
     if not _keep_moments(calls):
         raise BadHistory("moments")
-    if _give_twice(calls):
+    if give_twice([call[THING:] for call in calls]):
         raise BadHistory("twice")
     return thing
 
@@ -40,9 +40,17 @@ def _is_pair_of_tuples(thing):
 def _is_call(sorts, thing):
     if not isinstance(thing, tuple) or len(thing) != PARTS_OF_CALL:
         return False
-    begin, end, place, word, given, told = thing
+    begin, end = thing[:THING]
     if not is_value(begin) or not is_value(end) or begin >= end:
         return False
+    return is_step(sorts, thing[THING:])
+
+
+def is_step(sorts, thing):
+    """Whether it is a tuple (THING, WORD, GIVEN, TOLD), as it stands in a CALL of things of these SORTS."""
+    if not isinstance(thing, tuple) or len(thing) != PARTS_OF_CALL - THING:
+        return False
+    place, word, given, told = thing
     if not is_number_below(place, len(sorts)) or not is_word_of(word, sorts[place]):
         return False
     return can_be_given(word, given) and can_be_told(word, told)
@@ -57,18 +65,20 @@ def moments_of(calls):
     return sorted([call[BEGIN] for call in calls] + [call[END] for call in calls])
 
 
-def _give_twice(calls):
-    once = [(call[THING], call[WORD], call[GIVEN]) for call in calls if is_given_once(call[WORD])]
+def give_twice(steps):
+    """Whether two of these tuples (THING, WORD, GIVEN, TOLD) have the same GIVEN, and may not."""
+    once = [(thing, word, given) for thing, word, given, _ in steps if is_given_once(word)]
     return len(set(once)) < len(once)
 
 
 def plain_history(history):
     """The HISTORY as plain tuples, strings and integers, as what is told of it has to be."""
     sorts, calls = need_history(history)
-    return tuple([_plain_sort(sort) for sort in sorts]), tuple([_plain_call(call) for call in calls])
+    return tuple([plain_sort(sort) for sort in sorts]), tuple([_plain_call(call) for call in calls])
 
 
-def _plain_sort(sort):
+def plain_sort(sort):
+    """The SORT as a plain string, or a plain pair."""
     # A slice is plain even where the string is of a class under str.
     if isinstance(sort, tuple):
         return "room", int(sort[1])
@@ -76,8 +86,13 @@ def _plain_sort(sort):
 
 
 def _plain_call(call):
-    begin, end, thing, word, given, told = call
-    return int(begin), int(end), int(thing), word[:], _plain_or_none(given), _plain_or_none(told)
+    return (int(call[BEGIN]), int(call[END])) + plain_step(call[THING:])
+
+
+def plain_step(step):
+    """A tuple (THING, WORD, GIVEN, TOLD) as a plain one of plain things."""
+    thing, word, given, told = step
+    return int(thing), word[:], _plain_or_none(given), _plain_or_none(told)
 
 
 def _plain_or_none(thing):
@@ -99,6 +114,12 @@ def leads(call, other):
     return call[END] < other[BEGIN]
 
 
+def pairs_ahead(calls):
+    """The list of all pairs of numbers of these CALLS of which the first one is ahead of the second one."""
+    return [(number, far) for number, call in enumerate(calls) for far, other in enumerate(calls)
+            if leads(call, other)]
+
+
 def value_of(call):
     """The VALUE of a CALL, None if it has none."""
     if call[WORD] in ("add", "count", "draw"):
@@ -106,6 +127,11 @@ def value_of(call):
     if call[GIVEN] is None:
         return call[TOLD]
     return call[GIVEN]
+
+
+def with_told(calls, number, told):
+    """The CALLS with another TOLD of the one with this number."""
+    return calls[:number] + (calls[number][:TOLD] + (told,),) + calls[number + 1:]
 
 
 def is_ahead(history, number, far):

@@ -89,7 +89,7 @@ def _order_of(calls):
     for number, call in enumerate(calls):
         if is_empty_answer(call):
             places[number] = (_free_gap(calls, values, call), EMPTY, number, 0)
-    return tuple(sorted(range(len(calls)), key=lambda number: places[number]))
+    return tuple(sorted(range(len(calls)), key=lambda at: places[at]))
 
 
 def check_heads(history, paper):

@@ -1,6 +1,6 @@
 """ROWS of a queue: in which turns its VALUES can be put, and the EXPLANATIONS that come of these."""
 
-from shortbars.calls import TOLD, WORD, leads
+from shortbars.calls import TOLD, WORD, pairs_ahead
 from shortbars.errors import BadHistory, BadRow
 from shortbars.kinds import is_value
 from shortbars.lines import is_before, queue_calls
@@ -49,13 +49,8 @@ def order_by_row(calls, row):
 
     The CALLS are matched; those with VALUES not in the row are never taken.
     """
-    pairs = _ahead_pairs(calls) + _row_pairs(calls, row)
+    pairs = pairs_ahead(calls) + _row_pairs(calls, row)
     return _rest_of_order(calls, wants_of(len(calls), pairs), 0, {})
-
-
-def _ahead_pairs(calls):
-    return [(number, far) for number, call in enumerate(calls) for far, other in enumerate(calls)
-            if leads(call, other)]
 
 
 def _row_pairs(calls, row):

@@ -68,7 +68,7 @@ def _order_of(calls):
     for number, call in enumerate(calls):
         if is_empty_answer(call):
             places[number] = (_bare_moment(spans, call), 1)
-    return tuple(sorted(range(len(calls)), key=lambda number: places[number]))
+    return tuple(sorted(range(len(calls)), key=lambda at: places[at]))
 
 
 def _nests_of(calls, spans):

@@ -6,7 +6,7 @@ import random
 import unittest
 
 from checks import Checks, outcome
-from samples import NO_HISTORIES, TOP, Row, behind, matched, mixed, together, wild
+from samples import NO_HISTORIES, ONCE, TOP, Row, behind, matched, mixed, together, wild
 from shortbars import errors
 
 # Each function of the interface, in the file in which it is defined, and its arguments.
@@ -48,6 +48,20 @@ INTERFACE = {
         "crowd_behind": "history moment", "free_values": "history", "window_of": "history some",
         "room_paper": "history", "check_room": "history paper", "room_bar": "history paper"},
     "roomsize": {"least_room": "history", "sized": "history number"},
+    "counters": {
+        "surely_between": "history gate far", "perhaps_between": "history gate far", "count_paper": "history",
+        "check_count": "history paper", "count_bar": "history paper"},
+    "couldtell": {"could_tell": "history number", "told_instead": "history number some"},
+    "tickets": {"ticket_paper": "history", "check_tickets": "history paper"},
+    "flags": {
+        "in_and_out": "history some", "fleeting_values": "history", "flag_paper": "history",
+        "check_flags": "history paper"},
+    "hastold": {"could_have": "history number"},
+    "together": {
+        "is_each_explained": "history", "first_parts": "history", "laid": "history parts", "parts_by": "history order"},
+    "logs": {
+        "need_log": "thing", "log_of_thing": "log thing", "is_told": "log", "first_row": "log", "is_row": "log value",
+        "log_by": "history hands"},
 }
 # Things that stand in the place of each argument: some are right for some histories, some for none.
 THINGS = {
@@ -57,10 +71,13 @@ THINGS = {
     "paper": (("order", ()), ("order", (0, 1)), ("unwritten", 0), ("unput", 0), ("early", 0, 1), ("old", 0, 1),
               ("odds", 0, 1, 1, 0), ("twice", 0, 1), ("turn", 0, 1, 2, None), ("full", 1, (0,)), ["order", (0,)], None,
               ("early", 0), ("pile", (0, 1)), ("covered", 2, (0,)), ("late", (0, 1)), ("strange", 0), ("strange", 1),
-              ("crowd", 5), ("covered", 0)),
+              ("crowd", 5), ("covered", 0), ("back", 0, 1), ("many", None, 1), ("few", None, 0), ("few", None, 1), ("gap", 0),
+              ("turn", 0, 1), ("shut", 1, 0, None), ("shut", 2, 0, 1)),
     "turn": ((), (0,), (0, 1), (None, 0, 1), [0], (1, 0)), "row": ((), (0,), (0, 1), (1, 0), (0, 1, 2), [0]),
     "pile": ((), (0,), (0, 1), (0, 2), (0, 1, 2), [0]), "moment": (0, 1, 3, 6, TOP, TOP + 1, None),
-    "sort": ("queue", "stack", "heads", "cell", ("room", 1), None),
+    "sort": ("queue", "stack", "heads", "cell", ("room", 1), None), "gate": (None, 0, 1, 2, 3, 9, True),
+    "parts": (((),), ((0,),), ((0, 1),), ((1, 0),), ((), (), (), ()), ((0,), (), (), (0,)), [()], None),
+    "hands": (((),), ((0,),), ((0, 1),), ((0,), (1,)), ((0, 2), (1,)), ((1, 0),), [()], None),
 }
 SORTS = ("cell", "queue", "stack", "heads", "counter", "tickets", "set", ("room", 1), ("room", 9))
 
@@ -69,6 +86,10 @@ def every_function():
     for module, functions in INTERFACE.items():
         for name, names in functions.items():
             yield getattr(importlib.import_module("shortbars." + module), name), names.split()
+
+
+def is_of_logs(function, names):
+    return names[0] == "log" or function.__name__ == "need_log"
 
 
 def histories():
@@ -84,11 +105,37 @@ def histories():
     yield from (thing for thing, _ in NO_HISTORIES[::3] if "samples." not in repr(thing))
 
 
+def logs():
+    """Logs of one hand and of two, of up to 8 steps, and what is none."""
+    for history in histories():
+        if isinstance(history, tuple) and len(history) == 2 and isinstance(history[1], tuple):
+            steps = tuple(call[2:] if isinstance(call, tuple) else call for call in history[1])
+            yield history[0], (steps,)
+            yield history[0], (steps[::2], steps[1::2])
+        else:
+            yield history
+
+
+def firsts(function, names):
+    """What is passed first."""
+    return list(logs() if is_of_logs(function, names) else histories())
+
+
 def rows_of_things(names):
     """The things that are passed behind the history: each one of the samples comes in its place once."""
     places = [THINGS[name] for name in names]
     many = max([len(place) for place in places], default=1)
     return [tuple(place[(at + 2 * which) % len(place)] for which, place in enumerate(places)) for at in range(many)]
+
+
+def own_rows(thing):
+    """The same with all tuples being of a class of their own."""
+    return Row(own_rows(part) for part in thing) if type(thing) is tuple else thing
+
+
+def told_of(result):
+    """What a call came to, but for what an error keeps of the log that it was passed."""
+    return result if result[0] == "returned" else (result[1][0], own_rows(result[1][1].get("given")))
 
 
 class TestInterface(unittest.TestCase):
@@ -109,10 +156,9 @@ class TestInterface(unittest.TestCase):
 class TestEveryFunction(Checks, unittest.TestCase):
     def test_arguments_stay_and_equal_calls_come_to_the_same(self):
         told = {}
-        rows = list(histories())
         for function, names in every_function():
             key = (function.__module__, function.__name__)
-            for history in rows:
+            for history in firsts(function, names):
                 for things in rows_of_things(names[1:]):
                     self.is_pure(function, history, *things)
                     result = outcome(function, history, *things)
@@ -122,12 +168,11 @@ class TestEveryFunction(Checks, unittest.TestCase):
             self.assertEqual(told[key], {"returned", "raised"}, key)
 
     def test_what_was_called_between_makes_no_difference(self):
-        rows = [history for history in histories() if isinstance(history, tuple)]
-        functions = [(function, names) for function, names in every_function()]
-        first = [outcome(function, history, *things) for function, names in functions for history in rows[::5]
+        calls = [(function, first) + things for function, names in every_function()
+                 for first in firsts(function, names)[::5] if isinstance(first, tuple)
                  for things in rows_of_things(names[1:])[:2]]
-        second = [outcome(function, history, *things) for function, names in reversed(functions)
-                  for history in reversed(rows[::5]) for things in reversed(rows_of_things(names[1:])[:2])]
+        first = [outcome(*call) for call in calls]
+        second = [outcome(*call) for call in reversed(calls)]
         self.assertEqual(first, list(reversed(second)))
 
     def test_what_is_refused_is_kept_by_the_error_alone(self):
@@ -141,23 +186,25 @@ class TestEveryFunction(Checks, unittest.TestCase):
 
     def test_the_history_is_refused_ahead_of_all_else(self):
         for function, names in every_function():
-            self.refuses_histories(function, *[None for _ in names[1:]])
+            if not is_of_logs(function, names):
+                self.refuses_histories(function, *[None for _ in names[1:]])
 
     def test_things_of_classes_of_their_own_come_to_the_same(self):
         for function, names in every_function():
-            for history in list(histories())[::3]:
-                if type(history) is tuple and len(history) == 2 and type(history[0]) is type(history[1]) is tuple:
-                    own = Row((Row(history[0]), Row(Row(call) if type(call) is tuple else call for call in history[1])))
-                    for things in rows_of_things(names[1:])[:3]:
-                        if function.__name__ != "need_history":
-                            self.is_pure(function, own, *things)
-                            self.assertEqual(outcome(function, own, *things), outcome(function, history, *things))
+            if function.__name__ in ("need_history", "need_log"):
+                continue
+            for first in firsts(function, names)[::3]:
+                own = own_rows(first)
+                for things in rows_of_things(names[1:])[:3]:
+                    self.is_pure(function, own, *things)
+                    self.assertEqual(told_of(outcome(function, own, *things)), told_of(outcome(function, first, *things)))
 
     def test_papers_told_may_be_passed_on(self):
         papers = (
             ("cell", "cellpapers", "cell_paper", "check_cell"), ("queue", "linepapers", "queue_paper", "check_queue"),
             ("stack", "stacks", "stack_paper", "check_stack"), ("heads", "heads", "heads_paper", "check_heads"),
-            (("room", 2), "rooms", "room_paper", "check_room"),
+            (("room", 2), "rooms", "room_paper", "check_room"), ("counter", "counters", "count_paper", "check_count"),
+            ("tickets", "tickets", "ticket_paper", "check_tickets"), ("set", "flags", "flag_paper", "check_flags"),
         )
         for sort, module, tell, check in papers:
             module = importlib.import_module("shortbars." + module)
@@ -171,7 +218,8 @@ class TestEveryFunction(Checks, unittest.TestCase):
                 "linepapers": ("queue",), "linerows": ("queue",), "spans": ("stack", "heads"), "piles": ("stack",),
                 "stacks": ("stack",), "blocks": ("stack",), "stairs": ("heads",), "heads": ("heads",),
                 "headseams": ("heads",), "rooms": rooms, "roomsize": rooms,
-                "gaps_of": ("stack", "heads"), "as_sort": ("queue", "stack", "heads")}
+                "counters": ("counter",), "couldtell": ("counter",), "tickets": ("tickets",), "flags": ("set",),
+                "hastold": ("set",), "gaps_of": ("stack", "heads"), "as_sort": ("queue", "stack", "heads")}
         for function, names in every_function():
             sorts = good.get(function.__name__, good.get(function.__module__.split(".")[1]))
             if sorts:
@@ -179,15 +227,16 @@ class TestEveryFunction(Checks, unittest.TestCase):
 
     def test_ten_calls(self):
         rows = {"cell": ("write", "read"), "queue": ("put", "take"), "stack": ("put", "take"), "heads": ("put", "take"),
-                ("room", 1): ("enter", "leave"), ("room", 9): ("enter", "leave")}
-        for sort, (one, two) in rows.items():
-            row = [(one, at, None) for at in range(5)]
-            row += [(two, at, None) if two == "leave" else (two, None, at) for at in range(5)]
+                ("room", 1): ("enter", "leave"), ("room", 9): ("enter", "leave"), "counter": ("add", "count"),
+                "tickets": ("draw", "draw"), "set": ("join", "drop")}
+        self.assertEqual(set(rows), set(SORTS))
+        for sort, words in rows.items():
+            row = [(word, at, None) if word in ONCE else (word, None, None if word == "add" else at)
+                   for word in words for at in range(5)]
             for history in (((sort,), together(row)), ((sort,), behind(row))):
                 for function, names in every_function():
                     for things in rows_of_things(names[1:]):
                         self.is_pure(function, history, *things)
-        self.assertTrue(set(rows) <= set(SORTS))
 
 
 if __name__ == "__main__":
