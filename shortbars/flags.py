@@ -109,8 +109,10 @@ def _is_shut(calls, number, far, last):
         return False
     if first[GIVEN] != call[GIVEN] or not leads(first, call) or not (first[WORD] == "join" or _found_in(first)):
         return False
-    if last is None:
-        return _find(calls, "drop", call[GIVEN]) is None
+    stays = _find(calls, "drop", call[GIVEN]) is None
+    # What stays in is in behind as well, so no last one is named of it, and one of all others.
+    if stays or last is None:
+        return stays and last is None
     return calls[last][GIVEN] == call[GIVEN] and leads(call, calls[last]) and _wants_in(calls[last])
 
 

@@ -50,9 +50,9 @@ def holds(history, paper):
         return False
     if row[1][3] != "join" and not (row[1][3] == "has" and row[1][5] == 1):
         return False
-    if things[-1] is None:
-        return not of_value(history, row[0][4], "drop")
-    return wants_in(row[2]) and ahead(row[0], row[2])
+    if (things[-1] is None) != (of_value(history, row[0][4], "drop") == []):
+        return False
+    return things[-1] is None or (wants_in(row[2]) and ahead(row[0], row[2]))
 
 
 def is_good(history):

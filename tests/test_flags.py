@@ -143,9 +143,11 @@ class TestPapers(PaperChecks, unittest.TestCase):
         (OPEN, ("shut", 2, 1, None),
          [("shut", 2, 3, None), ("shut", 4, 0, None), ("shut", 2, 2, None), ("shut", 1, 0, None), ("shut", 2, 1, True),
           ("shut", 2, 1, 1), ("shut", 2, 1, 5)]),
-        (OPEN, ("shut", 2, 0, None), []),
-        # The last one may be named as well where there is no drop.
-        (OPEN, ("shut", 2, 0, 3), [("shut", 2, 0, 4)]),
+        # What found it later is not named where there is no drop.
+        (OPEN, ("shut", 2, 0, None), [("shut", 2, 0, 3), ("shut", 2, 1, 3), ("shut", 2, 0, 4)]),
+        # The drop of another value is none of this one.
+        (behind([("join", 5, None), ("has", 5, 0), ("has", 5, 1), ("join", 8, None), ("drop", 8, None)]),
+         ("shut", 1, 0, None), [("shut", 1, 0, 2), ("shut", 1, 0, 4)]),
         # Without a join nothing is shut.
         (behind([("has", 5, 1), ("has", 5, 0), ("has", 5, 1)]), ("strange", 0),
          [("shut", 1, 0, None), ("shut", 1, 0, 2), ("strange", 1), ("turn", 0, 1)]),
