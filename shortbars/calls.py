@@ -50,10 +50,15 @@ def is_step(sorts, thing):
     """Whether it is a tuple (THING, WORD, GIVEN, TOLD), as it stands in a CALL of things of these SORTS."""
     if not isinstance(thing, tuple) or len(thing) != PARTS_OF_CALL - THING:
         return False
-    place, word, given, told = thing
+    return is_asking(sorts, thing[:3]) and can_be_told(thing[1], thing[3])
+
+
+def is_asking(sorts, thing):
+    """Whether a triple is (THING, WORD, GIVEN), as it stands in a CALL of things of these SORTS."""
+    place, word, given = thing
     if not is_number_below(place, len(sorts)) or not is_word_of(word, sorts[place]):
         return False
-    return can_be_given(word, given) and can_be_told(word, told)
+    return can_be_given(word, given)
 
 
 def _keep_moments(calls):
@@ -74,7 +79,7 @@ def give_twice(steps):
 def plain_history(history):
     """The HISTORY as plain tuples, strings and integers, as what is told of it has to be."""
     sorts, calls = need_history(history)
-    return tuple([plain_sort(sort) for sort in sorts]), tuple([_plain_call(call) for call in calls])
+    return tuple([plain_sort(sort) for sort in sorts]), tuple([plain_call(call) for call in calls])
 
 
 def plain_sort(sort):
@@ -85,7 +90,8 @@ def plain_sort(sort):
     return sort[:]
 
 
-def _plain_call(call):
+def plain_call(call):
+    """A CALL as a plain one of plain things."""
     return (int(call[BEGIN]), int(call[END])) + plain_step(call[THING:])
 
 
@@ -101,12 +107,17 @@ def _plain_or_none(thing):
     return int(thing)
 
 
-def lone_calls(history, names):
-    """The CALLS of a HISTORY of one thing that has one of these SORTS; BadHistory of others."""
+def lone_thing(history, names):
+    """The pair of the SORT and the CALLS of a HISTORY of one thing with one of these names; BadHistory of others."""
     sorts, calls = plain_history(history)
     if len(sorts) != 1 or name_of(sorts[0]) not in names:
         raise BadHistory("sort")
-    return calls
+    return sorts[0], calls
+
+
+def lone_calls(history, names):
+    """The CALLS of a HISTORY of one thing that has one of these SORTS; BadHistory of others."""
+    return lone_thing(history, names)[1]
 
 
 def leads(call, other):

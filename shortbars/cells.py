@@ -19,7 +19,8 @@ def kins_of(calls):
     return {mark: tuple([number for number, other in enumerate(marks) if other == mark]) for mark in turn}
 
 
-def _near(calls, kin):
+def near_of(calls, kin):
+    """The least END of a KIN."""
     return min([calls[number][END] for number in kin])
 
 
@@ -29,7 +30,7 @@ def _far(calls, kin):
 
 def is_forced_by(calls, kins, mark, other):
     """Whether a MARK is forced ahead of another one."""
-    return mark is None or _near(calls, kins[mark]) < _far(calls, kins[other])
+    return mark is None or near_of(calls, kins[mark]) < _far(calls, kins[other])
 
 
 def are_at_odds(calls, kins, mark, other):
@@ -71,7 +72,7 @@ def span_of(history, value):
     far = _far(calls, kins[value])
     if value is None:
         return None, far
-    near = _near(calls, kins[value])
+    near = near_of(calls, kins[value])
     if near < far:
         return near, far
     return None

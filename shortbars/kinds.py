@@ -66,6 +66,17 @@ def are_numbers_below(thing, many):
     return all(is_number_below(number, many) for number in thing) and is_ascending(thing)
 
 
+def is_alike(thing, plain):
+    """Whether any value is this plain one: None, an integer, or a tuple of such."""
+    if isinstance(plain, tuple):
+        if not isinstance(thing, tuple) or len(thing) != len(plain):
+            return False
+        return all(is_alike(one, other) for one, other in zip(thing, plain))
+    if plain is None:
+        return thing is None
+    return is_whole(thing) and thing == plain
+
+
 def is_room(thing):
     """Whether it is a pair ("room", K)."""
     if not isinstance(thing, tuple) or len(thing) != 2:

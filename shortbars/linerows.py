@@ -10,11 +10,12 @@ from shortbars.putting import is_empty_answer, is_matched, put_of, takes_of, val
 
 def all_rows(history):
     """The ascending tuple of all ROWS."""
-    calls = _calls_of_rows(history)
+    calls = calls_of_rows(history)
     return tuple(rows_of(calls, values_put(calls)))
 
 
-def _calls_of_rows(history):
+def calls_of_rows(history):
+    """The CALLS of a HISTORY of one queue that has ROWS; BadHistory of others."""
     calls = queue_calls(history)
     if not is_matched(calls) or [call for call in calls if is_empty_answer(call)]:
         raise BadHistory("rows")
@@ -30,7 +31,7 @@ def rows_of(calls, values):
 
 def order_of_row(history, row):
     """An EXPLANATION that puts the VALUES in the turn of this ROW."""
-    calls = _calls_of_rows(history)
+    calls = calls_of_rows(history)
     if not _is_row(calls, row):
         raise BadRow(row)
     return order_by_row(calls, row)

@@ -104,13 +104,13 @@ def window_in(calls, value):
 def room_paper(history):
     """A PAPER on whether the HISTORY is explained."""
     calls = room_calls(history)
-    flaws = _room_flaws(calls, _size_of(history))
+    flaws = room_flaws(calls, _size_of(history))
     if flaws:
         return flaws[0]
     return "order", _order_of(calls, _size_of(history))
 
 
-def _room_flaws(calls, size):
+def room_flaws(calls, size):
     """A list of PAPERS that bar an EXPLANATION; [] just if it is explained."""
     odd = odd_leaves(calls)
     if odd:

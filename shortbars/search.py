@@ -15,9 +15,14 @@ def is_explained(history):
 def first_explanation(history):
     """The least EXPLANATION, None if there is none; TooMany of more than 7 CALLS."""
     sorts, calls = plain_history(history)
+    need_few(calls)
+    return _least_rest(sorts, calls, tuple(range(len(calls))), first_states(sorts), {})
+
+
+def need_few(calls):
+    """TooMany of more CALLS than are searched."""
     if len(calls) > MOST_SEARCHED:
         raise TooMany(MOST_SEARCHED)
-    return _least_rest(sorts, calls, tuple(range(len(calls))), first_states(sorts), {})
 
 
 def _least_rest(sorts, calls, left, states, barren):

@@ -13,13 +13,13 @@ SORTS = ("tickets",)
 def ticket_paper(history):
     """A PAPER on whether the HISTORY is explained."""
     calls = lone_calls(history, SORTS)
-    flaws = _ticket_flaws(calls)
+    flaws = ticket_flaws(calls)
     if flaws:
         return flaws[0]
     return "order", tuple(sorted(range(len(calls)), key=lambda number: calls[number][TOLD]))
 
 
-def _ticket_flaws(calls):
+def ticket_flaws(calls):
     """The list of all PAPERS that bar an EXPLANATION; [] just if it is explained."""
     numbers = range(len(calls))
     pairs = [(number, far) for number in numbers for far in numbers]

@@ -86,7 +86,7 @@ class Checks:
             self.refuses(errors.BadHistory, "sort", function, (("set", sort), ()), *behind)
 
     def is_pure(self, function, *things):
-        """No argument changes, two equal calls come to the same, and what is told is plain."""
+        """No argument changes, two equal calls come to the same, and what is told is plain; what they came to."""
         copies = deepcopy(things)
         first = outcome(function, *things)
         self.assertEqual(things, copies)
@@ -95,3 +95,4 @@ class Checks:
         if first[0] == "returned":
             self.assertTrue(alike(first[1], second[1]), (function.__name__, things))
             self.assertTrue(is_plain(first[1]), (function.__name__, first))
+        return first

@@ -17,9 +17,10 @@ METHODS = {
     "rsplit", "rstrip", "setdefault", "split", "splitlines", "startswith", "strip", "update", "upper", "values", "zfill",
     "bit_length", "isalnum", "isalpha", "isdigit", "islower", "isspace", "isupper", "sort", "add", "discard",
 }
+PRODUCTS = {"combinations", "permutations"}
 BANNED_NODES = (
     ast.Global, ast.AsyncFunctionDef, ast.AsyncFor, ast.AsyncWith, ast.Await, ast.Yield, ast.YieldFrom, ast.Import,
-    ast.Div, ast.MatMult, ast.Starred, ast.NamedExpr, ast.Nonlocal, ast.With, ast.Try, ast.Delete, ast.JoinedStr, ast.Assert,
+    ast.Div, ast.MatMult, ast.Starred, ast.NamedExpr, ast.Nonlocal, ast.With, ast.Delete, ast.JoinedStr, ast.Assert,
 )
 BANNED_NAMES = {
     "register", "mro", "elements", "open", "input", "law", "version_info", "with_traceback", "add_note", "attrgetter",
@@ -67,7 +68,8 @@ class TestLanguage(unittest.TestCase):
         for path, node in self.nodes():
             self.assertNotIsInstance(node, BANNED_NODES, path)
             if isinstance(node, (ast.FunctionDef, ast.ClassDef)):
-                self.assertEqual(node.decorator_list, [], path)
+                for decorator in node.decorator_list:
+                    self.assertEqual((type(node), ast.unparse(decorator)), (ast.FunctionDef, "property"), path)
             if isinstance(node, ast.Constant):
                 self.assertNotIsInstance(node.value, (float, complex), path)
                 if isinstance(node.value, str):
@@ -89,7 +91,7 @@ class TestLanguage(unittest.TestCase):
                 names = [node.arg]
             for name in names:
                 self.assertNotIn(name, BANNED_NAMES, path)
-                if name != "__init__":
+                if name not in ("__init__", "__len__"):
                     self.assertNotIn(name, BUILTIN_NAMES, path)
                     self.assertFalse(name.startswith("__"), (path, name))
 
@@ -103,7 +105,7 @@ class TestLanguage(unittest.TestCase):
                     self.assertIn(node, tree.body)
                     self.assertEqual(node.level, 0)
                     if node.module == "itertools":
-                        self.assertEqual([name.name for name in node.names], ["combinations"])
+                        self.assertTrue({name.name for name in node.names} <= PRODUCTS)
                         continue
                     package, _, module = node.module.partition(".")
                     self.assertEqual(package, "shortbars")
@@ -146,17 +148,70 @@ class TestLanguage(unittest.TestCase):
                     self.assertFalse(local & (imported | own), (path, node.name))
 
     def test_calls(self):
-        known = {name for path in files() for name in self.bound(path)} | BUILTINS | {"combinations", "action"}
+        methods = METHODS | self.own_methods()
+        known = {name for path in files() for name in self.bound(path)} | BUILTINS | PRODUCTS | {"action"}
         for path, node in self.nodes():
             if not isinstance(node, ast.Call):
                 continue
             if isinstance(node.func, ast.Attribute):
-                self.assertIn(node.func.attr, METHODS, path)
+                self.assertIn(node.func.attr, methods, path)
                 self.assertEqual(node.keywords, [], path)
             else:
                 self.assertIsInstance(node.func, ast.Name, path)
                 self.assertIn(node.func.id, known, path)
-                self.assertTrue(all(word.arg == "key" for word in node.keywords), path)
+                words = {"max": ["key", "default"], "min": ["key", "default"], "sorted": ["key"]}.get(node.func.id, [])
+                self.assertTrue(all(word.arg in words for word in node.keywords), path)
+
+    def own_methods(self):
+        return {method.name for _, node in self.nodes() if isinstance(node, ast.ClassDef)
+                for method in node.body if isinstance(method, ast.FunctionDef)}
+
+    def test_products_are_iterated_at_once(self):
+        for path in files():
+            tree = ast.parse(path.read_text(encoding="utf-8"))
+            made = {id(node) for node in ast.walk(tree) if isinstance(node, ast.Call)
+                    and isinstance(node.func, ast.Name) and node.func.id in PRODUCTS}
+            for node in ast.walk(tree):
+                rows = node.generators if isinstance(node, ast.ListComp) else [node] if isinstance(node, ast.For) else []
+                made -= {id(row.iter) for row in rows}
+            self.assertEqual(made, set(), path)
+
+    def test_only_own_errors_are_caught(self):
+        own = set(self.bound(PACKAGE / "errors.py"))
+        for path, node in self.nodes():
+            if isinstance(node, ast.ExceptHandler):
+                names = node.type.elts if isinstance(node.type, ast.Tuple) else [node.type]
+                self.assertTrue({name.id for name in names} <= own, path)
+            if isinstance(node, ast.Try):
+                self.assertEqual((node.orelse, node.finalbody), ([], []), path)
+
+    def test_properties_and_lengths_only_tell(self):
+        for path, node in self.nodes():
+            if isinstance(node, ast.FunctionDef) and (node.decorator_list or node.name == "__len__"):
+                rows = [row for row in node.body if not isinstance(row, ast.Expr)]
+                self.assertTrue(len(rows) == 1 and isinstance(rows[0], ast.Return), (path, node.name))
+            if isinstance(node, ast.FunctionDef) and node.name == "__len__":
+                self.assertEqual(rows[0].value.func.id, "len", path)
+
+    def test_dicts_of_a_file_are_only_read(self):
+        for path in files():
+            tree = ast.parse(path.read_text(encoding="utf-8"))
+            dicts = {node.targets[0].id for node in tree.body if isinstance(node, ast.Assign) and isinstance(node.value, ast.Dict)}
+            dicts |= {name.name for node in tree.body if isinstance(node, ast.ImportFrom) for name in node.names
+                      if name.name in ("WORDS", "FORMS", "TERMS", "ACTIONS", "SAYINGS", "LINES") and node.module != "itertools"}
+            right = set()
+            for node in ast.walk(tree):
+                if isinstance(node, (ast.Subscript, ast.Attribute)):
+                    right.add(id(node.value))
+                elif isinstance(node, ast.Compare):
+                    right |= {id(other) for other in node.comparators}
+                elif isinstance(node, ast.Call) and isinstance(node.func, ast.Name) and node.func.id in ("list", "tuple", "dict", "len"):
+                    right |= {id(argument) for argument in node.args}
+                elif isinstance(node, (ast.For, ast.comprehension)):
+                    right.add(id(node.iter))
+            for node in ast.walk(tree):
+                if isinstance(node, ast.Name) and isinstance(node.ctx, ast.Load) and node.id in dicts:
+                    self.assertIn(id(node), right, (path, node.id))
 
     def test_sets_stay_where_they_are_made(self):
         for path in files():

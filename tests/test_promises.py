@@ -5,9 +5,12 @@ import inspect
 import random
 import unittest
 
+import termfacts
+import textfacts
 from checks import Checks, outcome
-from samples import NO_HISTORIES, ONCE, TOP, Row, behind, matched, mixed, together, wild
+from samples import ALL_SORTS, NO_HISTORIES, ONCE, TOP, Row, behind, matched, mixed, together, wild
 from shortbars import errors
+from shortbars.calls import need_history
 
 # Each function of the interface, in the file in which it is defined, and its arguments.
 INTERFACE = {
@@ -62,21 +65,51 @@ INTERFACE = {
     "logs": {
         "need_log": "thing", "log_of_thing": "log thing", "is_told": "log", "first_row": "log", "is_row": "log value",
         "log_by": "history hands"},
+    "standings": {
+        "standings": "history", "is_live": "history value", "count_from": "history value", "last_states": "history"},
+    "sure": {
+        "is_surely_ahead": "history number far", "sure_pairs": "history", "sure_paper": "history number far",
+        "check_sure": "history number far paper"},
+    "places": {"places_of": "history number", "how_many": "history", "explanation_at": "history turn"},
+    "answers": {
+        "with_answer": "history question told", "all_answers": "history question", "is_narrowed": "history other"},
+    "dealings": {
+        "fewest_queues": "history", "queue_dealing": "history", "check_queue_dealing": "history paper",
+        "fewest_cells": "history", "cell_dealing": "history", "check_cell_dealing": "history paper"},
+    "cutsets": {
+        "is_cut": "history some", "least_cuts": "history", "cut_size": "history", "is_in_all": "history value"},
+    "aboutface": {"is_closed": "history", "faced_about": "history", "order_about": "history order"},
+    "readas": {"read_as": "history sort", "is_apart": "history"},
+    "barecuts": {"bare_places": "history", "cut_in_two": "history place"},
+    "terms": {"need_term": "thing", "history_of": "term", "kids_of": "term"},
+    "texts": {"history_text": "history", "term_text": "term", "read_history": "text", "read_term": "text"},
+    "judge": {"judged": "text"},
+}
+# Each class but the errors, in its file: its methods with their arguments, None for a property.
+CLASSES = {
+    ("watch", "Watch"): {
+        "__init__": "self sorts", "begin": "self thing word given", "end": "self number told", "answers": "self number",
+        "would": "self number told", "undo": "self many", "__len__": "self", "open_calls": None, "history": None,
+        "is_good": None, "went_bad": None},
+    ("desk", "Desk"): {"__init__": "self text", "say": "self line", "watch": None},
 }
 # Things that stand in the place of each argument: some are right for some histories, some for none.
 THINGS = {
-    "number": (0, 1, 2, 9, None, True), "far": (0, 1, 2, 5, None, False), "value": (0, 1, 2, None, "x", (0, 1), (1, 0)),
+    "number": (0, 1, 2, 9, None, True), "far": (0, 1, 2, 5, None, False), "value": (0, 1, 2, None, "x", (0, 1), (1, 0), ((), ((),)), ((), (0,))),
     "lot": ((), (0,), (0, 1), (1, 0), [0]), "thing": (0, 1, -1, None), "order": ((), (0,), (0, 1), (1, 0), (0, 1, 2), [0]),
     "some": ((), (0,), (0, 1), (1, 0), 0, 1, 2, None), "renaming": ((), ((0, 7),), ((0, 7), (1, 3), (2, 5), (3, 9)), [(0, 1)]),
     "paper": (("order", ()), ("order", (0, 1)), ("unwritten", 0), ("unput", 0), ("early", 0, 1), ("old", 0, 1),
               ("odds", 0, 1, 1, 0), ("twice", 0, 1), ("turn", 0, 1, 2, None), ("full", 1, (0,)), ["order", (0,)], None,
               ("early", 0), ("pile", (0, 1)), ("covered", 2, (0,)), ("late", (0, 1)), ("strange", 0), ("strange", 1),
               ("crowd", 5), ("covered", 0), ("back", 0, 1), ("many", None, 1), ("few", None, 0), ("few", None, 1), ("gap", 0),
-              ("turn", 0, 1), ("shut", 1, 0, None), ("shut", 2, 0, 1)),
-    "turn": ((), (0,), (0, 1), (None, 0, 1), [0], (1, 0)), "row": ((), (0,), (0, 1), (1, 0), (0, 1, 2), [0]),
+              ("turn", 0, 1), ("shut", 1, 0, None), ("shut", 2, 0, 1), ("sure",), ("not", (1, 0)), ((), ()),
+              (((0, 0), (1, 0)), (1,)), (((0, 0),), (0,)), (((0, 0), (1, 1)), (0, 1))),
+    "turn": ((), (0,), (0, 1), (None, 0, 1), [0], (1, 0), 0, 1), "row": ((), (0,), (0, 1), (1, 0), (0, 1, 2), [0]),
     "pile": ((), (0,), (0, 1), (0, 2), (0, 1, 2), [0]), "moment": (0, 1, 3, 6, TOP, TOP + 1, None),
     "sort": ("queue", "stack", "heads", "cell", ("room", 1), None), "gate": (None, 0, 1, 2, 3, 9, True),
     "parts": (((),), ((0,),), ((0, 1),), ((1, 0),), ((), (), (), ()), ((0,), (), (), (0,)), [()], None),
+    "question": ((50, 51, 0, "take", None), (50, 99, 0, "has", 7), (60, 61, 0, "read", None), (0, 1, 0, "put", 1), (50, 51), None),
+    "told": (None, 0, 1, "x"), "other": ((("cell",), ()), (("queue",), ()), (("room", 1), ()), None), "place": (1, 2, 3, 0, None),
     "hands": (((),), ((0,),), ((0, 1),), ((0,), (1,)), ((0, 2), (1,)), ((1, 0),), [()], None),
 }
 SORTS = ("cell", "queue", "stack", "heads", "counter", "tickets", "set", ("room", 1), ("room", 9))
@@ -88,8 +121,9 @@ def every_function():
             yield getattr(importlib.import_module("shortbars." + module), name), names.split()
 
 
-def is_of_logs(function, names):
-    return names[0] == "log" or function.__name__ == "need_log"
+def kind_of(function, names):
+    """What the first argument is: a history, a log, a term or a text."""
+    return {"need_log": "log", "need_term": "term", "need_history": "history"}.get(function.__name__, names[0])
 
 
 def histories():
@@ -116,9 +150,37 @@ def logs():
             yield history
 
 
-def firsts(function, names):
-    """What is passed first."""
-    return list(logs() if is_of_logs(function, names) else histories())
+def terms():
+    """Terms by chance, some of which are none, and what has no form."""
+    chance = random.Random(133)
+    yield from (termfacts.any_term(chance, deep) for deep in (0, 1, 2, 3, 4) for _ in range(12))
+    yield from (("plain", ("history", history)) for history in list(histories())[::9])
+    yield from list(histories())[-9:]
+
+
+def texts():
+    """Texts of histories, terms and sheets, some of them spoilt, and what is none."""
+    chance = random.Random(134)
+    for history in list(histories())[::4]:
+        if isinstance(history, tuple) and len(history) == 2 and need_or_none(history):
+            yield textfacts.history_text(history)
+            yield textfacts.spoilt(chance, textfacts.history_text(history))
+    for term in list(terms())[:60]:
+        text = textfacts.term_text(term)
+        yield from (text, text + "\nexplained\nfirst 0 1\nsurely 0 1", text + "\ncalls 3", textfacts.spoilt(chance, text))
+    yield from (None, 3, ("queue",), b"queue", [])
+
+
+def need_or_none(thing):
+    return outcome(need_history, thing)[0] == "returned"
+
+
+def firsts(function, names, made={}):
+    """What is passed first; of each kind it is made once."""
+    kind = kind_of(function, names)
+    if kind not in made:
+        made[kind] = list({"log": logs, "term": terms, "text": texts, "history": histories}[kind]())
+    return made[kind]
 
 
 def rows_of_things(names):
@@ -152,6 +214,19 @@ class TestInterface(unittest.TestCase):
                     self.assertEqual(parameter.kind, inspect.Parameter.POSITIONAL_OR_KEYWORD)
                     self.assertIs(parameter.default, inspect.Parameter.empty)
 
+    def test_classes_methods_and_properties(self):
+        for (module, name), members in CLASSES.items():
+            found = getattr(importlib.import_module("shortbars." + module), name)
+            self.assertEqual((found.__module__, found.__name__), ("shortbars." + module, name))
+            for member, names in members.items():
+                if names is None:
+                    self.assertIsInstance(vars(found)[member], property)
+                else:
+                    self.assertTrue(inspect.isfunction(vars(found)[member]))
+                    self.assertEqual(list(inspect.signature(vars(found)[member]).parameters), names.split())
+            public = {member for member in vars(found) if not member.startswith("_")}
+            self.assertEqual(public, {member for member in members if not member.startswith("_")})
+
 
 class TestEveryFunction(Checks, unittest.TestCase):
     def test_arguments_stay_and_equal_calls_come_to_the_same(self):
@@ -160,8 +235,7 @@ class TestEveryFunction(Checks, unittest.TestCase):
             key = (function.__module__, function.__name__)
             for history in firsts(function, names):
                 for things in rows_of_things(names[1:]):
-                    self.is_pure(function, history, *things)
-                    result = outcome(function, history, *things)
+                    result = self.is_pure(function, history, *things)
                     told.setdefault(key, set()).add(result[0])
         for function, names in every_function():
             key = (function.__module__, function.__name__)
@@ -169,7 +243,7 @@ class TestEveryFunction(Checks, unittest.TestCase):
 
     def test_what_was_called_between_makes_no_difference(self):
         calls = [(function, first) + things for function, names in every_function()
-                 for first in firsts(function, names)[::5] if isinstance(first, tuple)
+                 for first in firsts(function, names)[::5] if isinstance(first, (tuple, str))
                  for things in rows_of_things(names[1:])[:2]]
         first = [outcome(*call) for call in calls]
         second = [outcome(*call) for call in reversed(calls)]
@@ -186,12 +260,12 @@ class TestEveryFunction(Checks, unittest.TestCase):
 
     def test_the_history_is_refused_ahead_of_all_else(self):
         for function, names in every_function():
-            if not is_of_logs(function, names):
+            if kind_of(function, names) == "history":
                 self.refuses_histories(function, *[None for _ in names[1:]])
 
     def test_things_of_classes_of_their_own_come_to_the_same(self):
         for function, names in every_function():
-            if function.__name__ in ("need_history", "need_log"):
+            if function.__name__ in ("need_history", "need_log", "need_term"):
                 continue
             for first in firsts(function, names)[::3]:
                 own = own_rows(first)
@@ -219,7 +293,11 @@ class TestEveryFunction(Checks, unittest.TestCase):
                 "stacks": ("stack",), "blocks": ("stack",), "stairs": ("heads",), "heads": ("heads",),
                 "headseams": ("heads",), "rooms": rooms, "roomsize": rooms,
                 "counters": ("counter",), "couldtell": ("counter",), "tickets": ("tickets",), "flags": ("set",),
-                "hastold": ("set",), "gaps_of": ("stack", "heads"), "as_sort": ("queue", "stack", "heads")}
+                "hastold": ("set",), "fewest_queues": ("queue",), "queue_dealing": ("queue",),
+                "check_queue_dealing": ("queue",), "fewest_cells": ("cell",), "cell_dealing": ("cell",),
+                "check_cell_dealing": ("cell",), "cutsets": ("cell", "queue", "stack", "heads", "set") + rooms,
+                "aboutface": ALL_SORTS, "readas": ALL_SORTS, "barecuts": tuple(sort for sort in ALL_SORTS if sort != "cell"),
+                "gaps_of": ("stack", "heads"), "as_sort": ("queue", "stack", "heads")}
         for function, names in every_function():
             sorts = good.get(function.__name__, good.get(function.__module__.split(".")[1]))
             if sorts:
